@@ -1,0 +1,1 @@
+"""Integer matrices of determinant 1, and the groups that permutations stand for."""
