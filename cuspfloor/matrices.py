@@ -16,6 +16,11 @@ def is_whole(value):
     return isinstance(value, int) and not isinstance(value, bool)
 
 
+def is_pair(value):
+    """Tell if a value is a tuple of two integers."""
+    return isinstance(value, tuple) and len(value) == 2 and is_whole(value[0]) and is_whole(value[1])
+
+
 def is_matrix(value):
     """Tell if a value is a matrix."""
     return _has_determinant_one(value) and _normal_form(value) == value
@@ -76,14 +81,9 @@ def order(matrix):
     return 0
 
 
-def _is_row(value):
-    """Tell if a value is a tuple of two integers."""
-    return isinstance(value, tuple) and len(value) == 2 and is_whole(value[0]) and is_whole(value[1])
-
-
 def _has_determinant_one(value):
     """Tell if a value is a tuple of two tuples of two integers, with the determinant 1."""
-    if not isinstance(value, tuple) or len(value) != 2 or not _is_row(value[0]) or not _is_row(value[1]):
+    if not isinstance(value, tuple) or len(value) != 2 or not is_pair(value[0]) or not is_pair(value[1]):
         return False
     (a, b), (c, d) = value
     return a * d - b * c == 1

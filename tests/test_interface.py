@@ -11,6 +11,7 @@ VALUES = {
     "matrices": {"IDENTITY": ((1, 0), (0, 1)), "S": ((0, -1), (1, 0)), "R": ((0, -1), (1, 1)), "T": ((1, 1), (0, 1)),
                  "F": ((1, 0), (1, 1))},
     "words": {"MAX_WORD": 2000},
+    "floors": {"MAX_PLACES": 120},
 }
 
 FUNCTIONS = {
@@ -18,6 +19,14 @@ FUNCTIONS = {
                  "order(matrix)"],
     "words": ["is_word(value)", "word_of(matrix)", "matrix_of_word(word)", "joined(*words)", "expansion(matrix)",
               "cyclic_word(matrix)", "conjugator(one, other)"],
+    "ratios": ["is_fraction(value)", "taken(matrix, fraction)", "matrix_of_fraction(fraction)", "path(fraction)"],
+    "floors": ["check_floor(floor)", "is_floor(value)", "lead(floor, place, matrix)", "lead_by_word(floor, place, word)",
+               "is_member(floor, matrix)", "walk(floor, *, base=0)", "numbered(floor, *, base=0)", "same_group(first, second)",
+               "conjugate_base(first, second)", "relatives(floor)"],
+    "makers": ["roads(floor)", "makers(floor)", "expressed(floor, matrix)", "expression_matrix(floor, expression)",
+               "is_reduced(floor, value)"],
+    "cycles": ["cycles(floor)", "widths(floor)", "cycle_of(floor, fraction)", "width_of(floor, fraction)",
+               "taking(floor, first, second)", "fixed(floor)", "genus(floor)", "fractions_in(floor, index, *, most)"],
 }
 
 CLASSES = {
@@ -45,6 +54,13 @@ class Interface(unittest.TestCase):
                 self.assertTrue(inspect.isfunction(function))
                 self.assertEqual(function.__module__, "cuspfloor." + file)
                 self.assertEqual(function.__name__ + str(inspect.signature(function)), signature)
+
+    def test_generators(self):
+        for file, signatures in FUNCTIONS.items():
+            for signature in signatures:
+                name = signature.partition("(")[0]
+                found = inspect.isgeneratorfunction(getattr(module_of(file), name))
+                self.assertIs(found, name in ("path", "fractions_in"), name)
 
     def test_classes(self):
         for file, classes in CLASSES.items():
