@@ -2,9 +2,8 @@
 
 from math import gcd
 
-from cuspfloor.errors import BadNumber
 from cuspfloor.floors import check_floor, cycles_of_permutation, led_by_powers, power_tables
-from cuspfloor.matrices import inverse, is_whole, product
+from cuspfloor.matrices import check_number, inverse, product
 from cuspfloor.ratios import check_fraction, matrix_of_fraction
 from cuspfloor.words import expansion
 
@@ -66,10 +65,8 @@ def genus(floor):
 def fractions_in(floor, index, *, most):
     """Yield (1, 0) and the fractions from 0 to 1 with small second numbers, as far as their cycle has this index."""
     check_floor(floor)
-    if not is_whole(index) or index < 0 or index >= len(_cycles(floor)):
-        raise BadNumber(index)
-    if not is_whole(most) or most < 0 or most > MOST_DENOMINATOR:
-        raise BadNumber(most)
+    check_number(index, 0, len(_cycles(floor)) - 1)
+    check_number(most, 0, MOST_DENOMINATOR)
     tables = power_tables(floor)
     indexes = _indexes(floor)
     if indexes[_place_of(tables, (1, 0))] == index:

@@ -16,6 +16,12 @@ def is_whole(value):
     return isinstance(value, int) and not isinstance(value, bool)
 
 
+def check_number(value, least, most):
+    """Raise BadNumber if a value is not an integer from least to most, where None stands for no upper limit."""
+    if not is_whole(value) or value < least or (most is not None and value > most):
+        raise BadNumber(value)
+
+
 def is_pair(value):
     """Tell if a value is a tuple of two integers."""
     return isinstance(value, tuple) and len(value) == 2 and is_whole(value[0]) and is_whole(value[1])
@@ -59,8 +65,7 @@ def inverse(matrix):
 def power(matrix, exponent):
     """Return the power of a matrix, for exponents from -200 to 200."""
     check_matrix(matrix)
-    if not is_whole(exponent) or abs(exponent) > MOST_EXPONENT:
-        raise BadNumber(exponent)
+    check_number(exponent, -MOST_EXPONENT, MOST_EXPONENT)
     factor = matrix if exponent > 0 else inverse(matrix)
     result = IDENTITY
     for _ in range(abs(exponent)):

@@ -123,6 +123,35 @@ def step_row(floor, letter):
     return [r[x] if letter == "T" else r.index(x) for x in s]
 
 
+def in_common(floors):
+    """The floor of the tuples of places that can be reached together from place 0 of each of the floors."""
+    listed = [(0,) * len(floors)]
+    for places in listed:
+        for part in (0, 1):
+            reached = tuple(floor[part][x] for floor, x in zip(floors, places))
+            if reached not in listed:
+                listed.append(reached)
+    return tuple(tuple(listed.index(tuple(floor[part][x] for floor, x in zip(floors, places))) for places in listed)
+                 for part in (0, 1))
+
+
+def made_one(floor, places):
+    """The floor that results if these places and place 0 become one place, and what follows from it."""
+    classes = [{x} for x in range(len(floor[0]))]
+    joined = [{0, x} for x in places]
+    while joined:
+        some = joined.pop()
+        met = [one for one in classes if one & some]
+        if len(met) > 1:
+            whole = set().union(*met)
+            classes = [one for one in classes if one not in met] + [whole]
+            joined.extend({row[x] for x in whole} for row in floor)
+            joined.extend({row.index(x) for x in whole} for row in floor)
+    classes.sort(key=min)
+    number = {x: at for at, one in enumerate(classes) for x in one}
+    return tuple(tuple(number[row[min(one)]] for one in classes) for row in floor)
+
+
 def as_listed(floor, base):
     """The walk, tile after tile, as the document tells it."""
     s, r = floor
@@ -138,6 +167,12 @@ def as_listed(floor, base):
     return tuple(listed)
 
 
+def as_numbered(floor, base):
+    """The floor in which each place has its index in the walk as its number."""
+    listed = as_listed(floor, base)
+    return renamed(floor, [listed.index(x) for x in range(len(listed))])
+
+
 SCATTERED = [scattered_floor(places, seed, by_s, by_r) for places, seed, by_s, by_r in [
     (7, 1, 1, 1), (9, 2, 1, 3), (12, 3, 0, 0), (13, 4, 3, 1), (20, 5, 4, 5), (30, 6, 2, 0), (48, 7, 0, 3), (61, 8, 1, 4),
     (90, 9, 6, 6), (119, 10, 1, 2), (120, 11, 0, 0), (120, 12, 10, 6)]]
@@ -151,6 +186,12 @@ FLOORS = ([ONE, EVEN, ODD, ((0, 2, 1), (1, 2, 0)), ((1, 0), (0, 1)), ((0, 1, 2),
           + [zero_floor(modulus) for modulus in (3, 4, 5, 6, 7, 8, 9, 11, 12, 13, 22, 37, 113)]
           + [full_floor(modulus) for modulus in (2, 3, 4, 5, 6)] + SCATTERED
           + [CHAIN, scattered_floor(120, 14, 2, 30)])
+
+# Two floors whose intersection has exactly 120 places, and two with one place more.
+WITH_120 = (((3, 5, 2, 0, 6, 1, 4, 9, 8, 7), (1, 2, 0, 4, 5, 3, 7, 8, 6, 9)),
+            ((0, 3, 4, 1, 2, 7, 10, 5, 8, 11, 6, 9), (1, 2, 0, 3, 5, 6, 4, 8, 9, 7, 10, 11)))
+WITH_121 = (((3, 5, 2, 0, 6, 1, 4, 9, 10, 7, 8), (1, 2, 0, 4, 5, 3, 7, 8, 6, 9, 10)),
+            ((0, 3, 6, 1, 5, 4, 2, 9, 10, 7, 8), (1, 2, 0, 4, 5, 3, 7, 8, 6, 9, 10)))
 
 FEW = [ONE, EVEN, ODD, ((1, 0), (0, 1)), ((0, 1, 2), (1, 2, 0)), zero_floor(5), zero_floor(11), full_floor(3), SCATTERED[3],
        SCATTERED[4]]

@@ -12,6 +12,7 @@ VALUES = {
                  "F": ((1, 0), (1, 1))},
     "words": {"MAX_WORD": 2000},
     "floors": {"MAX_PLACES": 120},
+    "moduli": {"MAX_MODULUS": 16},
 }
 
 FUNCTIONS = {
@@ -27,6 +28,12 @@ FUNCTIONS = {
                "is_reduced(floor, value)"],
     "cycles": ["cycles(floor)", "widths(floor)", "cycle_of(floor, fraction)", "width_of(floor, fraction)",
                "taking(floor, first, second)", "fixed(floor)", "genus(floor)", "fractions_in(floor, index, *, most)"],
+    "several": ["intersection(*floors)", "generated(*floors)", "missing(first, second)", "is_normal(floor)",
+                "floor_count(places)",
+                "all_floors(places)"],
+    "moduli": ["are_alike(one, other, modulus)", "level(floor)", "outsider(floor, modulus)", "dependence(floor)",
+               "is_dependence(floor, value)"],
+    "texts": ["matrix_text(matrix)", "floor_text(floor)", "floor_table(floor)", "parse_matrix(text)", "parse_floor(text)"],
 }
 
 CLASSES = {
@@ -34,6 +41,37 @@ CLASSES = {
                "BadWord": "index", "BadFloor": "part", "BadPlace": "value", "BadNumber": "value", "BadExpression": "index",
                "BadRule": None, "BadText": "part", "TooLong": "limit", "TooMany": "limit", "NotMember": "reached",
                "NothingToUndo": None},
+}
+
+# Of each other class: what it is constructed with, its base class, and what stands in its own body.
+OBJECTS = {
+    "rules": {
+        "Rule": ("()", "object", {"contains(self, matrix)": "method", "standard_floor(self)": "method",
+                                  "in_all(matrix, *rules)": "static"}),
+        "LevelZero": ("(level)", "Rule", {"level": "property", "contains(self, matrix)": "method", "size(level)": "class",
+                                          "levels_with(matrix, *, most=60)": "class"}),
+        "LevelOne": ("(level)", "LevelZero", {"contains(self, matrix)": "method", "size(level)": "class"}),
+        "LevelFull": ("(level)", "LevelOne", {"contains(self, matrix)": "method", "size(level)": "class"}),
+        "Common": ("(*rules)", "Rule", {"contains(self, matrix)": "method"}),
+        "Conjugated": ("(rule, matrix)", "Rule", {"contains(self, matrix)": "method"})},
+    "turns": {
+        "Turn": ("(matrix)", "object", {"rows": "property", "of_word(word)": "class", "raised(self, exponent)": "method",
+                                        "__mul__(self, other)": "method", "__invert__(self)": "method",
+                                        "__eq__(self, other)": "method",
+                                        "__bool__(self)": "method", "__str__(self)": "method",
+                                        "__call__(self, fraction)": "method"})},
+    "groups": {
+        "Group": ("(floor)", "object", {"floor": "property", "of_rule(rule)": "class", "__contains__(self, x)": "method",
+                                        "__len__(self)": "method", "__eq__(self, other)": "method",
+                                        "__and__(self, other)": "method",
+                                        "__or__(self, other)": "method", "is_within(self, group)": "method",
+                                        "moved(self, matrix)": "method"})},
+    "walkers": {
+        "Walker": ("(floor, *, place=0)", "object", {"floor": "property", "total": "property", "place": "property",
+                                                     "move_to(self, place)": "method", "go(self, *matrices)": "method",
+                                                     "letters(self, word)": "method", "rehearse(self, *matrices)": "method"}),
+        "Tracker": ("(floor, *, place=0)", "Walker", {"go(self, *matrices)": "method", "history": "property",
+                                                      "undo(self, *, count=1)": "method"})},
 }
 
 
@@ -60,7 +98,7 @@ class Interface(unittest.TestCase):
             for signature in signatures:
                 name = signature.partition("(")[0]
                 found = inspect.isgeneratorfunction(getattr(module_of(file), name))
-                self.assertIs(found, name in ("path", "fractions_in"), name)
+                self.assertIs(found, name in ("path", "fractions_in", "all_floors"), name)
 
     def test_classes(self):
         for file, classes in CLASSES.items():
@@ -70,6 +108,31 @@ class Interface(unittest.TestCase):
                 self.assertEqual(found.__module__, "cuspfloor." + file)
                 if field is not None:
                     self.assertEqual(str(inspect.signature(found)), "(" + field + ")")
+
+    def test_objects(self):
+        kinds = {"static": staticmethod, "class": classmethod, "property": property, "method": type(module_of)}
+        for file, classes in OBJECTS.items():
+            for name, (signature, base, own) in classes.items():
+                found = getattr(module_of(file), name)
+                self.assertTrue(inspect.isclass(found))
+                self.assertEqual(found.__module__, "cuspfloor." + file)
+                self.assertEqual(str(inspect.signature(found)), signature)
+                self.assertEqual([above.__name__ for above in found.__bases__], [base])
+                for method, kind in own.items():
+                    label = method.partition("(")[0]
+                    self.assertIs(type(found.__dict__[label]), kinds[kind], (name, label))
+                    if kind != "property":
+                        self.assertEqual(label + str(inspect.signature(getattr(found, label))), method)
+        self.assertEqual(module_of("turns").Turn.__dict__["MOST_EXPONENT"], 200)
+        self.assertTrue(inspect.isgeneratorfunction(module_of("walkers").Walker.letters))
+        self.assertIsNotNone(module_of("walkers").Walker.place.fset)
+
+    def test_files(self):
+        listed = {file: set(names) for file, names in VALUES.items()}
+        for table in (FUNCTIONS, CLASSES, OBJECTS):
+            for file, names in table.items():
+                listed.setdefault(file, set()).update(name.partition("(")[0] for name in names)
+        self.assertEqual(sorted(listed), sorted(path.stem for path in PACKAGE.glob("*.py") if path.stem != "__init__"))
 
     def test_package(self):
         self.assertTrue((PACKAGE / "__init__.py").is_file())

@@ -110,6 +110,83 @@ class Statements(unittest.TestCase):
                 self.assertIn(name, ("property", "setter", "staticmethod", "classmethod"), place)
 
 
+class Classes(unittest.TestCase):
+    """The package has classes with operators, properties, __eq__ and __len__, which narrows what the rest may do."""
+
+    SIGNS = {"__init__", "__eq__", "__str__", "__len__", "__call__", "__mul__", "__and__", "__or__", "__invert__", "__bool__",
+             "__contains__"}
+
+    def test_methods_with_double_underscores(self):
+        for place, node in nodes(ast.ClassDef):
+            for method in node.body:
+                if isinstance(method, ast.FunctionDef) and method.name.startswith("__"):
+                    self.assertIn(method.name, self.SIGNS, place)
+                    self.assertEqual(method.decorator_list, [], place)
+
+    def test_what_len_str_and_bool_return(self):
+        called = {"__len__": "len", "__str__": "str", "__bool__": "bool"}
+        for place, node in nodes(ast.FunctionDef):
+            if node.name in called:
+                self.assertIsInstance(node.body[-1], ast.Return, place)
+                for inner in ast.walk(node):
+                    if isinstance(inner, ast.Return):
+                        self.assertEqual(inner.value.func.id, called[node.name], place)
+
+    def test_attributes_are_assigned_through_self(self):
+        for place, node in nodes(ast.Attribute):
+            if isinstance(node.ctx, ast.Store):
+                self.assertEqual(node.value.id, "self", place)
+
+    def test_no_generator_expressions_and_no_handlers(self):
+        kinds = (ast.GeneratorExp, ast.Try, ast.Lambda, ast.Set, ast.AugAssign, ast.Delete, ast.NamedExpr)
+        self.assertEqual([place for place, _ in nodes(kinds)], [])
+
+    def test_nothing_has_the_name_of_a_generator(self):
+        names = [node.name for _, node in nodes(ast.FunctionDef)]
+        yielding = {node.name for _, node in nodes(ast.FunctionDef)
+                    if any(isinstance(inner, (ast.Yield, ast.YieldFrom)) for inner in ast.walk(node))}
+        self.assertEqual(sorted(yielding), ["all_floors", "fractions_in", "letters", "path"])
+        self.assertEqual(sorted(name for name in names if name in yielding), sorted(yielding))
+
+    def test_properties_have_names_of_their_own(self):
+        properties, others = set(), set()
+        for _, node in nodes(ast.ClassDef):
+            for method in node.body:
+                if isinstance(method, ast.FunctionDef):
+                    marks = {ast.unparse(mark) for mark in method.decorator_list}
+                    (properties if marks & {"property", "place.setter"} else others).add(method.name)
+        stored = {node.attr for _, node in nodes(ast.Attribute) if isinstance(node.ctx, ast.Store)}
+        self.assertEqual(properties, {"rows", "floor", "total", "place", "history", "level"})
+        self.assertTrue(properties.isdisjoint(others))
+        self.assertTrue((properties - {"place"}).isdisjoint(stored))
+
+    def test_nothing_is_sorted_in_place(self):
+        for place, node in nodes(ast.Attribute):
+            self.assertNotEqual(node.attr, "sort", place)
+
+    def test_parameters_and_variables_are_no_imports_or_classes_of_their_file(self):
+        for name, text in FILES.items():
+            tree = ast.parse(text)
+            bound = {alias.name for node in tree.body if isinstance(node, ast.ImportFrom) for alias in node.names}
+            bound |= {node.name for node in tree.body if isinstance(node, ast.ClassDef)}
+            for function in ast.walk(tree):
+                if isinstance(function, ast.FunctionDef):
+                    used = {node.arg for node in ast.walk(function) if isinstance(node, ast.arg)}
+                    used |= {node.id for node in ast.walk(function) if isinstance(node, ast.Name)
+                             and isinstance(node.ctx, ast.Store)}
+                    self.assertEqual(sorted(used & bound), [], (name, function.name))
+
+
+class Cycles(unittest.TestCase):
+    def test_no_two_files_import_from_each_other(self):
+        above = {name[:-3]: {node.module.partition(".")[2] for node in ast.parse(text).body
+                             if isinstance(node, ast.ImportFrom) and node.module.startswith("cuspfloor.")} for name, text in FILES.items()}
+        while above:
+            free = [name for name, needed in above.items() if needed.isdisjoint(above)]
+            self.assertNotEqual(free, [])
+            above = {name: needed for name, needed in above.items() if name not in free}
+
+
 class Names(unittest.TestCase):
     def test_builtins(self):
         for place, node in nodes(ast.Name):

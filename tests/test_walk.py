@@ -4,17 +4,11 @@ import unittest
 
 from cuspfloor.errors import BadFloor, BadPlace
 from cuspfloor.floors import conjugate_base, is_member, numbered, relatives, same_group, walk
-from some_floors import (CHAIN, EVEN, FLOORS, ODD, ONE, SCATTERED, WRONG_FLOORS, all_small_floors, as_listed, follow,
-                         full_floor, renamed, shuffled, zero_floor)
+from some_floors import (CHAIN, EVEN, FLOORS, ODD, ONE, SCATTERED, WRONG_FLOORS, all_small_floors, as_listed,
+                         as_numbered, follow, full_floor, renamed, shuffled, zero_floor)
 from support import HUGE, STRANGE, back, of_letters, words_up_to
 
 SMALL = [floor for places in (1, 2, 3, 4, 5) for floor in all_small_floors(places)]
-
-
-def as_numbered(floor, base):
-    """The floor in which each place has its index in the walk as its number."""
-    listed = as_listed(floor, base)
-    return renamed(floor, [listed.index(x) for x in range(len(listed))])
 
 
 class Walk(unittest.TestCase):
