@@ -20,7 +20,8 @@ class Rule:
         """Return the standard floor with the same members."""
         # Of each place, the inverse of a matrix that leads place 0 to it.
         backward = [IDENTITY]
-        s, r = [], []
+        s = []
+        r = []
         # The list grows while it is gone through.
         while len(r) < len(backward):
             way = inverse(backward[len(r)])
@@ -130,7 +131,6 @@ class Conjugated(Rule):
 
     def contains(self, matrix):
         """Tell if a matrix is a member."""
-        check_matrix(matrix)
         return self._rule.contains(product(inverse(self._matrix), matrix, self._matrix))
 
 

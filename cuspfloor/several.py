@@ -17,7 +17,8 @@ def intersection(*floors):
     start = tuple([0 for _ in floors])
     numbers = {start: 0}
     listed = [start]
-    s, r = [], []
+    s = []
+    r = []
     # The list grows while it is gone through.
     while len(r) < len(listed):
         places = listed[len(r)]
@@ -112,7 +113,8 @@ def _heads_of_places(floor, reached):
 
 def _pair_counts(places):
     """Return the list of I(n) * J(n) of Fact 12, for n from 0 to the number of places."""
-    halves, thirds = [1], [1]
+    halves = [1]
+    thirds = [1]
     for n in range(1, places + 1):
         # The last place stays where it is, or it goes round with one or two of the others.
         halves.append(halves[n - 1] + (n - 1) * (halves[n - 2] if n > 1 else 0))

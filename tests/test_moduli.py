@@ -352,6 +352,19 @@ class IsDependence(unittest.TestCase):
                 rows[at] = bool(rows[at])
             self.assertIs(is_dependence(ODD, ("outsider", (tuple(rows[:2]), tuple(rows[2:])))), not isinstance(rows[at], bool))
 
+    def test_a_name_that_equals_everything(self):
+        class Same:
+            """An object that no comparison tells from another one."""
+
+            def __eq__(self, other):
+                return True
+
+        for floor in (ONE, EVEN, ODD):
+            for second in (level(floor), dependence(floor)[1], Same()):
+                self.assertIs(is_dependence(floor, (Same(), second)), False)
+            self.assertIs(is_dependence(floor, ("level", Same())), False)
+            self.assertIs(is_dependence(floor, Same()), False)
+
     def test_other_kinds(self):
         found = dependence(ODD)[1]
         for value in STRANGE + [0, 1, 2, "level", "outsider", (), ("level",), ("outsider",), ("level", 2, 2),
